@@ -1,0 +1,96 @@
+package rational
+
+import (
+	"strings"
+
+	"sosopt/api"
+	"sosopt/integer"
+)
+
+// read returns the value of a number in canonical form, and false for every
+// other string.
+func read(s string) (fraction, bool) {
+	rest, negative := strings.CutPrefix(s, "-")
+	before, after, hasSlash := strings.Cut(rest, "/")
+	num, ok := readInteger(before)
+	if !ok || num.Sign() == 0 && s != "0" {
+		return fraction{}, false
+	}
+	if negative {
+		num = num.Neg()
+	}
+	if !hasSlash {
+		return whole(num), true
+	}
+	den, ok := readInteger(after)
+	if !ok || den.Sign() == 0 || den.IsOne() || !num.GCD(den).IsOne() {
+		return fraction{}, false
+	}
+	return fraction{num, den}, true
+}
+
+// readInteger reads digits without leading zeros.
+func readInteger(digits string) (integer.Int, bool) {
+	if len(digits) > 1 && digits[0] == '0' {
+		return integer.Int{}, false
+	}
+	return integer.FromDigits(digits)
+}
+
+// value returns the value of s, where a string that is no number counts as 0.
+func value(s string) fraction {
+	if a, ok := read(s); ok {
+		return a
+	}
+	return whole(integer.Int{})
+}
+
+func (a fraction) text() string {
+	if a.den.IsOne() {
+		return a.num.String()
+	}
+	return a.num.String() + "/" + a.den.String()
+}
+
+// Parse reads digits, digits/digits or digits.digits, after a minus sign or none,
+// and returns the number in canonical form.
+func Parse(text string) (string, api.Errno) {
+	if len(text) > api.MaxText {
+		return "", api.ErrLimit
+	}
+	digits, negative := strings.CutPrefix(text, "-")
+	num, den, ok := parseUnsigned(digits)
+	switch {
+	case !ok:
+		return "", api.ErrSyntax
+	case den.Sign() == 0:
+		return "", api.ErrZero
+	case negative:
+		num = num.Neg()
+	}
+	return reduced(num, den).text(), api.OK
+}
+
+// parseUnsigned returns the numerator and the denominator of a number without a
+// sign as they are written, and false if the text has none of the three forms.
+func parseUnsigned(text string) (integer.Int, integer.Int, bool) {
+	switch i := strings.IndexAny(text, "/."); {
+	case i < 0:
+		num, ok := integer.FromDigits(text)
+		return num, integer.FromInt64(1), ok
+	case text[i] == '/':
+		num, okNum := integer.FromDigits(text[:i])
+		den, okDen := integer.FromDigits(text[i+1:])
+		return num, den, okNum && okDen
+	default:
+		return parseDecimal(text[:i], text[i+1:])
+	}
+}
+
+func parseDecimal(before, after string) (integer.Int, integer.Int, bool) {
+	if before == "" || after == "" {
+		return integer.Int{}, integer.Int{}, false
+	}
+	num, ok := integer.FromDigits(before + after)
+	return num, integer.FromInt64(10).Pow(uint(len(after))), ok
+}
