@@ -213,10 +213,16 @@ func (x Int) Pow(n uint) Int {
 	return signed(x.negative() && n%2 == 1, x.natural().power(n))
 }
 
+// FloorRoot returns the greatest number whose square is at most x; x is not
+// negative.
+func (x Int) FloorRoot() Int {
+	return signed(false, x.natural().root())
+}
+
 // Root returns the number that is not negative and has the square x, and false
 // if there is none.
 func (x Int) Root() (Int, bool) {
-	root := signed(false, x.natural().root())
+	root := x.Abs().FloorRoot()
 	if root.Mul(root).Compare(x) != 0 {
 		return Int{}, false
 	}

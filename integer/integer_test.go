@@ -237,6 +237,77 @@ func TestRoot(t *testing.T) {
 	}
 }
 
+func TestFloorRoot(t *testing.T) {
+	g := generator(9)
+	for _, a := range sample(&g, 0, 1, 2, 3, 10, 150) {
+		for _, n := range []int64{-1, 0, 1} {
+			other := new(big.Int).Add(new(big.Int).Mul(a, a), big.NewInt(n))
+			if other.Sign() >= 0 {
+				check(t, "FloorRoot", fromBig(t, other).FloorRoot(), new(big.Int).Sqrt(other))
+			}
+		}
+	}
+}
+
+// smallMultiple takes the steps of Euclid's algorithm one by one.
+func smallMultiple(x, modulus, bound *big.Int) (*big.Int, *big.Int) {
+	a, b := modulus, new(big.Int).Mod(x, modulus)
+	factorA, factorB := big.NewInt(0), big.NewInt(1)
+	for b.Cmp(bound) > 0 {
+		quotient, rest := new(big.Int).QuoRem(a, b, new(big.Int))
+		factor := new(big.Int).Mul(quotient, factorB)
+		a, b = b, rest
+		factorA, factorB = factorB, factor.Sub(factorA, factor)
+	}
+	return b, factorB
+}
+
+func checkSmallMultiple(t *testing.T, x, modulus, bound *big.Int) {
+	t.Helper()
+	wantRest, wantFactor := smallMultiple(x, modulus, bound)
+	rest, factor := fromBig(t, x).SmallMultiple(fromBig(t, modulus), fromBig(t, bound))
+	check(t, "rest", rest, wantRest)
+	check(t, "factor", factor, wantFactor)
+}
+
+func TestSmallMultipleOfShortNumbers(t *testing.T) {
+	for modulus := int64(1); modulus <= 40; modulus++ {
+		for x := -modulus - 1; x <= modulus+1; x++ {
+			for bound := int64(0); bound <= modulus; bound++ {
+				checkSmallMultiple(t, big.NewInt(x), big.NewInt(modulus), big.NewInt(bound))
+			}
+		}
+	}
+}
+
+func TestSmallMultipleOfLongNumbers(t *testing.T) {
+	g := generator(10)
+	for range 300 {
+		words := 1 + int(g.next()%30)
+		modulus := g.number(words)
+		modulus.Add(modulus, big.NewInt(1))
+		x := g.number(words)
+		for _, bound := range []*big.Int{new(big.Int), g.number(1), new(big.Int).Sqrt(modulus), g.number(words / 2), g.number(words), modulus} {
+			checkSmallMultiple(t, x, modulus, bound)
+			checkSmallMultiple(t, x.Neg(x), modulus, bound)
+		}
+	}
+}
+
+// Every remainder is the bound once, so that no leap may lead beyond it.
+func TestSmallMultipleStopsAtEveryRemainder(t *testing.T) {
+	g := generator(11)
+	for _, words := range []int{1, 2, 3, 8} {
+		x, modulus := g.number(words), g.number(words)
+		a, b := modulus, new(big.Int).Mod(x, modulus)
+		for b.Sign() > 0 {
+			checkSmallMultiple(t, x, modulus, b)
+			checkSmallMultiple(t, x, modulus, new(big.Int).Sub(b, big.NewInt(1)))
+			a, b = b, new(big.Int).Mod(a, b)
+		}
+	}
+}
+
 func TestText(t *testing.T) {
 	g := generator(8)
 	for _, length := range []int{1, 2, 18, 19, 20, 38, 39, 607, 608, 609, 1216, 1217, 5000, 30000} {
