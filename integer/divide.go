@@ -94,7 +94,8 @@ func divideByDigits(a, b natural) (natural, natural) {
 	for i := len(quotient) - 1; i >= 0; i-- {
 		window := rest[i : i+len(b)+1]
 		digit := guessDigit(window, b)
-		missing := subtractProduct(window, b, digit)
+		missing := subtractProduct(window[:len(b)], b, digit)
+		window[len(b)], missing = bits.Sub64(window[len(b)], missing, 0)
 		for missing != 0 {
 			digit--
 			missing -= addTo(window, b)
@@ -126,10 +127,11 @@ func guessDigit(a, b []uint64) uint64 {
 	}
 }
 
-// subtractProduct subtracts b * w from a, which has one word more than b, and
-// returns what is missing.
+// subtractProduct subtracts b * w from the words of a, which are as many as those
+// of b, and returns what is missing.
 func subtractProduct(a, b []uint64, w uint64) uint64 {
 	var carry, c uint64
+	a = a[:len(b)]
 	for i, v := range b {
 		high, low := bits.Mul64(v, w)
 		low, c = bits.Add64(low, carry, 0)
@@ -137,6 +139,5 @@ func subtractProduct(a, b []uint64, w uint64) uint64 {
 		a[i], c = bits.Sub64(a[i], low, 0)
 		carry, _ = bits.Add64(high, 0, c)
 	}
-	a[len(b)], c = bits.Sub64(a[len(b)], carry, 0)
-	return c
+	return carry
 }

@@ -82,6 +82,7 @@ func checkPair(t *testing.T, a, b *big.Int) {
 	wantQuotient, wantRest := floorDiv(a, b)
 	check(t, "quotient", quotient, wantQuotient)
 	check(t, "rest", rest, wantRest)
+	check(t, "DivExact", x.Mul(y).DivExact(y), a)
 	check(t, "left operand", x, a)
 	check(t, "right operand", y, b)
 }
@@ -143,6 +144,7 @@ func TestDivOfKnownQuotients(t *testing.T) {
 			quotient, rest := x.Div(y)
 			check(t, "quotient", quotient, q)
 			check(t, "rest", rest, new(big.Int))
+			check(t, "DivExact", x.DivExact(y), q)
 			quotient, rest = fromBig(t, less).Div(y)
 			wantQuotient, wantRest := floorDiv(less, b)
 			check(t, "quotient", quotient, wantQuotient)
@@ -156,6 +158,7 @@ func TestDivByZero(t *testing.T) {
 		quotient, rest := integer.FromInt64(n).Div(integer.Int{})
 		check(t, "quotient", quotient, new(big.Int))
 		check(t, "rest", rest, big.NewInt(n))
+		check(t, "DivExact", integer.FromInt64(n).DivExact(integer.Int{}), new(big.Int))
 	}
 }
 

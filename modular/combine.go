@@ -2,11 +2,10 @@ package modular
 
 import (
 	"slices"
-	"strings"
 
 	"sosopt/api"
+	"sosopt/fraction"
 	"sosopt/integer"
-	"sosopt/rational"
 )
 
 // Combine returns the least integer that is not negative and has the given
@@ -90,13 +89,6 @@ func greatestPart(m integer.Int) integer.Int {
 // readInteger returns the value of s, and false if s is no integer in canonical
 // form.
 func readInteger(s string) (integer.Int, bool) {
-	if !rational.Valid(s) {
-		return integer.Int{}, false
-	}
-	digits, negative := strings.CutPrefix(s, "-")
-	n, ok := integer.FromDigits(digits)
-	if negative {
-		n = n.Neg()
-	}
-	return n, ok
+	a, ok := fraction.Read(s)
+	return a.Num(), ok && a.IsInteger()
 }

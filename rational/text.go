@@ -4,52 +4,14 @@ import (
 	"strings"
 
 	"sosopt/api"
+	"sosopt/fraction"
 	"sosopt/integer"
 )
 
-// read returns the value of a number in canonical form, and false for every
-// other string.
-func read(s string) (fraction, bool) {
-	rest, negative := strings.CutPrefix(s, "-")
-	before, after, hasSlash := strings.Cut(rest, "/")
-	num, ok := readInteger(before)
-	if !ok || num.Sign() == 0 && s != "0" {
-		return fraction{}, false
-	}
-	if negative {
-		num = num.Neg()
-	}
-	if !hasSlash {
-		return whole(num), true
-	}
-	den, ok := readInteger(after)
-	if !ok || den.Sign() == 0 || den.IsOne() || !num.GCD(den).IsOne() {
-		return fraction{}, false
-	}
-	return fraction{num, den}, true
-}
-
-// readInteger reads digits without leading zeros.
-func readInteger(digits string) (integer.Int, bool) {
-	if len(digits) > 1 && digits[0] == '0' {
-		return integer.Int{}, false
-	}
-	return integer.FromDigits(digits)
-}
-
 // value returns the value of s, where a string that is no number counts as 0.
-func value(s string) fraction {
-	if a, ok := read(s); ok {
-		return a
-	}
-	return whole(integer.Int{})
-}
-
-func (a fraction) text() string {
-	if a.den.IsOne() {
-		return a.num.String()
-	}
-	return a.num.String() + "/" + a.den.String()
+func value(s string) fraction.Fraction {
+	a, _ := fraction.Read(s)
+	return a
 }
 
 // Parse reads digits, digits/digits or digits.digits, after a minus sign or none,
@@ -68,7 +30,7 @@ func Parse(text string) (string, api.Errno) {
 	case negative:
 		num = num.Neg()
 	}
-	return reduced(num, den).text(), api.OK
+	return fraction.Quotient(num, den).String(), api.OK
 }
 
 // parseUnsigned returns the numerator and the denominator of a number without a

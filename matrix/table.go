@@ -1,0 +1,72 @@
+package matrix
+
+import (
+	"sosopt/fraction"
+	"sosopt/integer"
+)
+
+// table is a matrix of integers, row by row: a matrix of fractions, each row of
+// which is divided by its content, the greatest common divisor of its elements.
+// A row of zeros has the content 0.
+type table struct {
+	rows, cols int
+	elems      []integer.Int
+	contents   []fraction.Fraction
+	order      []int // the places that the rows had before they were exchanged
+	exchanges  int
+}
+
+func newTable(g grid) *table {
+	t := &table{rows: g.rows, cols: g.cols, elems: make([]integer.Int, len(g.elems))}
+	for i := range g.rows {
+		common := content(g.row(i))
+		t.contents = append(t.contents, common)
+		t.order = append(t.order, i)
+		if common.Sign() == 0 {
+			continue
+		}
+		row, factor := t.row(i), common.Inverse()
+		for j, x := range g.row(i) {
+			row[j] = x.Mul(factor).Num()
+		}
+	}
+	return t
+}
+
+func content(row []fraction.Fraction) fraction.Fraction {
+	var common fraction.Fraction
+	for _, x := range row {
+		common = common.GCD(x)
+	}
+	return common
+}
+
+func (t *table) row(i int) []integer.Int {
+	return t.elems[i*t.cols : (i+1)*t.cols]
+}
+
+func (t *table) at(i, j int) integer.Int {
+	return t.elems[i*t.cols+j]
+}
+
+func (t *table) exchange(i, k int) {
+	if i == k {
+		return
+	}
+	upper, lower := t.row(i), t.row(k)
+	for j := range upper {
+		upper[j], lower[j] = lower[j], upper[j]
+	}
+	t.contents[i], t.contents[k] = t.contents[k], t.contents[i]
+	t.order[i], t.order[k] = t.order[k], t.order[i]
+	t.exchanges++
+}
+
+// dot returns the sum of the products of the elements in the same places.
+func dot(a, b []integer.Int) integer.Int {
+	var sum integer.Int
+	for i, x := range a {
+		sum = sum.Add(x.Mul(b[i]))
+	}
+	return sum
+}
