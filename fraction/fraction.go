@@ -142,6 +142,26 @@ func (a Fraction) GCD(b Fraction) Fraction {
 	return Fraction{a.num.GCD(b.num), denA.Mul(denB.DivExact(shared))}
 }
 
+// Primitive returns the content of the values, which is their greatest common
+// divisor, and the integers without a common divisor of which the values are the
+// products with the content. If all values are 0, the content and the integers
+// are 0.
+func Primitive(values []Fraction) ([]integer.Int, Fraction) {
+	integers := make([]integer.Int, len(values))
+	var content Fraction
+	for _, value := range values {
+		content = content.GCD(value)
+	}
+	if content.Sign() == 0 {
+		return integers, content
+	}
+	factor := content.Inverse()
+	for i, value := range values {
+		integers[i] = value.Mul(factor).Num()
+	}
+	return integers, content
+}
+
 // Root returns the number that is not negative and has the square a, and false
 // if there is none.
 func (a Fraction) Root() (Fraction, bool) {

@@ -151,6 +151,32 @@ func TestQuotient(t *testing.T) {
 	check(t, "One", fraction.One(), big.NewRat(1, 1))
 }
 
+func TestPrimitive(t *testing.T) {
+	for _, c := range []struct {
+		values   []string
+		integers []string
+		content  string
+	}{
+		{nil, nil, "0"},
+		{[]string{"0", "0"}, []string{"0", "0"}, "0"},
+		{[]string{"0", "-3/4"}, []string{"0", "-1"}, "3/4"},
+		{[]string{"1/2", "1/3", "-1"}, []string{"3", "2", "-6"}, "1/6"},
+		{[]string{"4", "-6/5"}, []string{"10", "-3"}, "2/5"},
+		{[]string{"6", "10", "15"}, []string{"6", "10", "15"}, "1"},
+		{[]string{"55340232221128654848/7", "18446744073709551616"}, []string{"3", "7"}, "18446744073709551616/7"},
+	} {
+		values, _ := fraction.ReadAll(c.values)
+		integers, content := fraction.Primitive(values)
+		var texts []string
+		for _, n := range integers {
+			texts = append(texts, n.String())
+		}
+		if !slices.Equal(texts, c.integers) || content.String() != c.content {
+			t.Errorf("Primitive of %v: %v and %v", c.values, integers, content)
+		}
+	}
+}
+
 func TestLists(t *testing.T) {
 	list := []string{"0", "-3", "7/2", "18446744073709551616/3"}
 	values, ok := fraction.ReadAll(list)

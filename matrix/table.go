@@ -17,28 +17,14 @@ type table struct {
 }
 
 func newTable(g grid) *table {
-	t := &table{rows: g.rows, cols: g.cols, elems: make([]integer.Int, len(g.elems))}
+	t := &table{rows: g.rows, cols: g.cols}
 	for i := range g.rows {
-		common := content(g.row(i))
-		t.contents = append(t.contents, common)
+		row, content := fraction.Primitive(g.row(i))
+		t.elems = append(t.elems, row...)
+		t.contents = append(t.contents, content)
 		t.order = append(t.order, i)
-		if common.Sign() == 0 {
-			continue
-		}
-		row, factor := t.row(i), common.Inverse()
-		for j, x := range g.row(i) {
-			row[j] = x.Mul(factor).Num()
-		}
 	}
 	return t
-}
-
-func content(row []fraction.Fraction) fraction.Fraction {
-	var common fraction.Fraction
-	for _, x := range row {
-		common = common.GCD(x)
-	}
-	return common
 }
 
 func (t *table) row(i int) []integer.Int {
